@@ -1,0 +1,1 @@
+"""Debtsheld: purely functional data structures with counted steps."""
