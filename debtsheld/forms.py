@@ -116,3 +116,29 @@ def inner(thing):
         elif sort == "branches":
             found.extend([branch[2] for branch in part])
     return found
+
+
+def is_position(thing, size):
+    """Whether the thing is a position in something of that size."""
+    return is_integer(thing) and 0 <= thing < size
+
+
+def are_ascending(thing):
+    """Whether the thing is an ascending tuple of integers."""
+    if not isinstance(thing, tuple) or not all([is_integer(part) for part in thing]):
+        return False
+    return all([a < b for a, b in zip(thing, thing[1:])])
+
+
+def is_result(thing, position):
+    """Whether the thing is ("of", i) with a position i before this one."""
+    if not isinstance(thing, tuple) or len(thing) != 2:
+        return False
+    return thing[0] == "of" and is_position(thing[1], position)
+
+
+def has_deed_form(thing):
+    """Whether the thing is a pair of a string and a tuple, as every deed is."""
+    if not isinstance(thing, tuple) or len(thing) != 2:
+        return False
+    return isinstance(thing[0], str) and isinstance(thing[1], tuple)

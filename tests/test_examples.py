@@ -1,7 +1,12 @@
-"""The examples of the document, word for word."""
+"""The examples of the document, word for word, and those of README.md."""
 
 import ast
+import builtins
+import doctest
+import pathlib
 import unittest
+
+README = pathlib.Path(__file__).resolve().parent.parent / "README.md"
 
 EXAMPLES = r"""
 >>> from debtsheld.programs import is_program, program_text, read_program
@@ -17,6 +22,44 @@ raises BadText('(def one () 01)')
 >>> TEXTS = ('(def box (x) (Box (delay (+ x 1))))\n(def open (b) (case b ((Box c) (force c))))', '(def f (x) y)', '(def f (x x) x)', '(def f (x) (f))', '(def f (x) (case x ((A) 1) ((A) 2)))', '(def f (x) (A x))\n(def g () (A))')
 >>> [[fault(read_program(text)) for text in TEXTS], is_checked(read_program(TEXTS[0]))]
 [[None, ('unbound', 'f', 'y'), ('parameter', 'f', 'x'), ('call', 'f', 'f'), ('branch', 'f', 'A'), ('tag', 'g', 'A')], True]
+>>> from debtsheld.programs import read_program
+>>> from debtsheld.worlds import is_part, line, outcomes, steps, traces
+>>> PROGRAM = read_program('(def box (x) (Box (delay (+ x 1))))\n(def open (b) (case b ((Box c) (force c))))')
+>>> WORLD = (('box', (4,)), ('open', (('of', 0),)), ('open', (('of', 0),)), ('open', (7,)))
+>>> [traces(PROGRAM, WORLD)[:2], outcomes(PROGRAM, WORLD)[2:], steps(PROGRAM, WORLD)]
+[((('value', ('Box', (('cell', 0),))), 2, (), (0,)), (('value', 5), 4, ((0, 3),), ())), (('value', 5), ('stuck',)), (2, 7, 4, 2)]
+>>> from debtsheld.programs import read_program
+>>> from debtsheld.worlds import is_part, line
+>>> PROGRAM = read_program('(def box (x) (Box (delay (+ x 1))))\n(def open (b) (case b ((Box c) (force c))))')
+>>> WORLD = (('box', (4,)), ('open', (('of', 0),)), ('open', (('of', 0),)), ('open', (7,)))
+>>> [line(PROGRAM, WORLD, 2), is_part(PROGRAM, WORLD, (1, 2)), is_part(PROGRAM, WORLD, (0, 1, 3))]
+[(0, 2), False, True]
+>>> from debtsheld.books import charge_holds, judge_charge, least_charge, payers
+>>> from debtsheld.programs import read_program
+>>> PROGRAM = read_program('(def box (x) (Box (delay (+ x 1))))\n(def open (b) (case b ((Box c) (force c))))')
+>>> WORLD = (('box', (4,)), ('open', (('of', 0),)), ('open', (('of', 0),)))
+>>> [payers(PROGRAM, WORLD), least_charge(PROGRAM, WORLD), judge_charge(PROGRAM, WORLD, 4), judge_charge(PROGRAM, WORLD, 3)[0] in ('own', 'lot')]
+[((0, (0, 1)),), 5, ('lot', (0,)), True]
+>>> from debtsheld.books import charge_holds
+>>> from debtsheld.programs import read_program
+>>> PROGRAM = read_program('(def box (x) (Box (delay (+ x 1))))\n(def open (b) (case b ((Box c) (force c))))')
+>>> WORLD = (('box', (4,)), ('open', (('of', 0),)), ('open', (('of', 0),)))
+>>> [charge_holds(PROGRAM, WORLD, 5, ('book', ((0, 0, 2), (1, 0, 1)))), charge_holds(PROGRAM, WORLD, 5, ('book', ((0, 0, 3),))), charge_holds(PROGRAM, WORLD, 5, ('book', ((2, 0, 3),)))]
+[True, True, False]
+>>> from debtsheld.kinds import is_kind_program, is_kind_world, judge_kind, kind_holds, meanings
+>>> from debtsheld.programs import read_program
+>>> TWO = read_program('(def empty () (Q (N) (N)))\n(def rev (l a) (case l ((N) a) ((C x t) (rev t (C x a)))))\n(def check (f r) (case f ((N) (Q (rev r (N)) (N))) ((C x t) (Q f r))))\n(def put (q x) (case q ((Q f r) (check f (C x r)))))\n(def first (q) (case q ((Q f r) (case f ((C x t) x)))))\n(def rest (q) (case q ((Q f r) (case f ((C x t) (check t r))))))')
+>>> PILE = read_program('(def empty () (N))\n(def put (q x) (C x q))\n(def first (q) (case q ((C x t) x)))\n(def rest (q) (case q ((C x t) t)))')
+>>> WORLD = (('empty', ()), ('put', (('of', 0), 7)), ('put', (('of', 1), 8)), ('first', (('of', 2),)), ('rest', (('of', 2),)), ('first', (('of', 0),)))
+>>> [meanings('queue', WORLD), judge_kind('queue', TWO, WORLD), judge_kind('queue', PILE, WORLD)]
+[(('version', ()), ('version', (7,)), ('version', (7, 8)), ('answer', 7), ('version', (8,)), ('stuck',)), ('right',), ('wrong', 3)]
+>>> from debtsheld.kinds import is_kind_program, is_kind_world, kind_holds, meanings
+>>> from debtsheld.programs import read_program
+>>> PILE = read_program('(def empty () (N))\n(def put (q x) (C x q))\n(def first (q) (case q ((C x t) x)))\n(def rest (q) (case q ((C x t) t)))')
+>>> WORLD = (('empty', ()), ('put', (('of', 0), 7)), ('put', (('of', 1), 8)), ('first', (('of', 2),)), ('rest', (('of', 2),)), ('first', (('of', 0),)))
+>>> HEAP = (('empty', ()), ('insert', (('of', 0), 2)), ('merge', (('of', 1), ('of', 1))), ('without', (('of', 0),)), ('least', (('of', 3),)))
+>>> [is_kind_program('queue', PILE), is_kind_program('heap', PILE), is_kind_world('queue', WORLD + (('rest', (('of', 3),)),)), kind_holds('queue', PILE, WORLD, ('wrong', 5)), meanings('heap', HEAP)[2:]]
+[True, False, False, False, (('version', (2, 2)), ('stuck',), ('none',))]
 """
 
 
@@ -43,7 +86,15 @@ class ExampleTests(unittest.TestCase):
             below = lines[at + 1] if at + 1 < len(lines) and not lines[at + 1].startswith(">>> ") else None
             self.assertEqual(answer(line[4:], names), below)
             shown += below is not None
-        self.assertEqual(shown, 3)
+        self.assertEqual(shown, 9)
+
+    def test_readme(self):
+        # What shows a result there leaves it in builtins, where other tests look.
+        self.addCleanup(vars(builtins).pop, "_", None)
+        text = README.read_text(encoding="utf-8").replace("```", "")
+        told = doctest.DocTestRunner().run(doctest.DocTestParser().get_doctest(text, {}, "README.md", "README.md", 0))
+        self.assertEqual(told.failed, 0)
+        self.assertGreater(told.attempted, 15)
 
 
 if __name__ == "__main__":
