@@ -1,7 +1,7 @@
 """The checker: the first fault of a program."""
 
 from debtsheld.errors import BadProgram
-from debtsheld.forms import inner
+from debtsheld.forms import inner, parameter_counts
 from debtsheld.programs import is_program
 
 
@@ -84,10 +84,10 @@ def scopes_within(expression, bound):
 
 
 def call_fault(program):
-    parameter_counts = {definition[0]: len(definition[1]) for definition in program}
+    counts = parameter_counts(program)
     for f, _, body in program:
         for word, thing in places(body):
-            if word == "call" and parameter_counts.get(thing[1]) != len(thing[2]):
+            if word == "call" and counts.get(thing[1]) != len(thing[2]):
                 return ("call", f, thing[1])
     return None
 

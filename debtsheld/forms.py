@@ -137,6 +137,11 @@ def is_result(thing, position):
     return thing[0] == "of" and is_position(thing[1], position)
 
 
+def parameter_counts(program):
+    """The number of parameters of each function of a program."""
+    return {f: len(parameters) for f, parameters, _ in program}
+
+
 def has_deed_form(thing):
     """Whether the thing is a pair of a string and a tuple, as every deed is."""
     if not isinstance(thing, tuple) or len(thing) != 2:

@@ -2,7 +2,7 @@
 
 from debtsheld.checker import is_checked
 from debtsheld.errors import BadKind, BadProgram, BadWorld
-from debtsheld.forms import has_deed_form, is_integer, is_position, is_result
+from debtsheld.forms import has_deed_form, is_integer, is_position, is_result, parameter_counts
 from debtsheld.machine import NONE, STUCK
 from debtsheld.programs import is_program
 from debtsheld.worlds import outcomes
@@ -53,8 +53,8 @@ def is_kind_program(kind, thing):
     check_kind(kind)
     if not is_program(thing) or not is_checked(thing):
         return False
-    sizes = {f: len(parameters) for f, parameters, _ in thing}
-    return all([sizes.get(f) == len(PARAMETERS[f]) for f in KINDS[kind]])
+    counts = parameter_counts(thing)
+    return all([counts.get(f) == len(PARAMETERS[f]) for f in KINDS[kind]])
 
 
 def is_kind_world(kind, thing):

@@ -47,6 +47,13 @@ class Machine:
         # The counts of the cells that were not worked out are own steps of the deed, too.
         return (run.outcome, sum(run.counts), tuple(run.works), tuple(range(first_made, len(self.cells))))
 
+    def take_back(self):
+        """Undoes the last deed: what it made is gone, and what it worked out is delayed again."""
+        _, _, works, made = self.traces.pop()
+        for number, _ in works:
+            self.cells[number].value = None
+        del self.cells[len(self.cells) - len(made):]
+
     def given(self, argument):
         """The value that an argument of a deed stands for, or None if there is none."""
         if is_integer(argument):

@@ -2,7 +2,7 @@
 
 from debtsheld.checker import is_checked
 from debtsheld.errors import BadChecked, BadNumber, BadWorld
-from debtsheld.forms import are_ascending, has_deed_form, is_integer, is_position, is_result
+from debtsheld.forms import are_ascending, has_deed_form, is_integer, is_position, is_result, parameter_counts
 from debtsheld.machine import Machine
 
 
@@ -11,16 +11,16 @@ def is_world(program, thing):
         raise BadChecked(program)
     if not isinstance(thing, tuple):
         return False
-    sizes = {f: len(parameters) for f, parameters, _ in program}
-    return all([is_deed(part, position, sizes) for position, part in enumerate(thing)])
+    counts = parameter_counts(program)
+    return all([is_deed(part, position, counts) for position, part in enumerate(thing)])
 
 
-def is_deed(thing, position, sizes):
+def is_deed(thing, position, counts):
     """Whether the thing is a deed at a position of a world, the functions having these numbers of parameters."""
     if not has_deed_form(thing):
         return False
     f, arguments = thing
-    if sizes.get(f) != len(arguments):
+    if counts.get(f) != len(arguments):
         return False
     return all([is_integer(argument) or is_result(argument, position) for argument in arguments])
 

@@ -2,6 +2,7 @@
 
 import copy
 
+from debtsheld.desk import Desk
 from debtsheld.programs import read_program
 
 BOX = (
@@ -205,8 +206,9 @@ def wrapped(e, text):
     )
 
 
-class Thing:
-    """An object that is equal only to itself, as a desk is."""
+def a_desk():
+    """A desk that is equal to no other one: any value may hold some."""
+    return Desk(BOX)
 
 
 ANY_VALUES = (
@@ -215,8 +217,8 @@ ANY_VALUES = (
     (("f", (), ("int", 1)), None), [("f", (), ("int", 1))], ("f", (), ("int", 1)), ("int", 1),
     DEEP_LIST, (DEEP_LIST,), (("f", (), DEEP_LIST),), (("f", (), {}),), (("f", {}, ONE),), (({}, (), ONE),),
     (("f", (), (["int"], 1)),), (("f", (), ({}, 1)),), (("f", (), ((), 1)),), tuple(range(1999)),
-    (("f", (), ("int", {})),), (("f", (), ("name", [])),), (("f", (), ("call", [], ())),), Thing(), (Thing(),),
-    (("f", (), (Thing(), 1)),), (("f", (), ("op", Thing(), ONE, ONE)),), (("f", (), ("if", [], ONE, ONE, ONE, ONE)),),
+    (("f", (), ("int", {})),), (("f", (), ("name", [])),), (("f", (), ("call", [], ())),), a_desk(), (a_desk(),),
+    (("f", (), (a_desk(), 1)),), (("f", (), ("op", a_desk(), ONE, ONE)),), (("f", (), ("if", [], ONE, ONE, ONE, ONE)),),
     (BOX,), [BOX], list(BOX), BOX + (1,), BOX[0], (BOX_TEXT,), BOX + (BOX,),
 )
 

@@ -7,7 +7,7 @@ from debtsheld.books import charge_holds, judge_charge, least_charge, payers, ro
 from debtsheld.programs import read_program
 from debtsheld.worlds import line, steps, traces
 from tests.plain import chances, plain_machine, some_line, some_program, some_world, with_much_room
-from tests.samples import ANY_VALUES, BOX, BOXES, STREAMS, Thing, boxes_world, outcome, program_of, streams_world
+from tests.samples import ANY_VALUES, BOX, BOXES, STREAMS, a_desk, boxes_world, outcome, program_of, streams_world
 
 WORLD = (("box", (4,)), ("open", (("of", 0),)), ("open", (("of", 0),)))
 FAULTY = program_of(("name", "y"))
@@ -146,7 +146,7 @@ class CertificateTests(unittest.TestCase):
             (((0, 0, "3"),), False), (((0, 0, None),), False), (((0, "0", 3),), False), ((([], 0, 3),), False),
             ((((0,), 0, 3),), False), (((0, [], 3),), False), (((0, {}, 3),), False), (((-1, 0, 3),), False),
             (((0, -1, 3),), False), (((3, 0, 3),), False), (((0, 0, 3), (3, 0, 1)), False), (None, False), ("", False),
-            ({}, False), (3, False), (Thing(), False), ((Thing(),), False), (((10 ** 30, 0, 3),), False),
+            ({}, False), (3, False), (a_desk(), False), ((a_desk(),), False), (((10 ** 30, 0, 3),), False),
         ):
             self.assertIs(charge_holds(BOX, WORLD, 5, ("book", thing)), expected, thing)
             self.assertIs(charge_holds(BOX, WORLD, 4, ("book", thing)), False, thing)
@@ -158,7 +158,7 @@ class CertificateTests(unittest.TestCase):
         for c, thing, expected in (
             (3, 1, True), (3, 2, True), (3, 0, False), (1, 0, True), (2, 0, False), (0, 0, True), (4, 1, False),
             (3, 3, False), (0, -1, False), (0, True, False), (0, False, False), (0, None, False), (0, "0", False),
-            (0, (0,), False), (0, [0], False), (0, {}, False), (0, 10 ** 30, False), (0, Thing(), False),
+            (0, (0,), False), (0, [0], False), (0, {}, False), (0, 10 ** 30, False), (0, a_desk(), False),
         ):
             self.assertIs(charge_holds(BOX, WORLD, c, ("own", thing)), expected, (c, thing))
 
@@ -167,8 +167,8 @@ class CertificateTests(unittest.TestCase):
             (4, (0,), True), (5, (0,), False), (3, (0,), True), (0, (0,), True), (4, (0, 0), False), (4, (), False),
             (4, [0], False), (4, (False,), False), (4, (1,), False), (4, (0, 1), False), (4, (-1, 0), False),
             (4, 0, False), (4, None, False), (4, "0", False), (4, ("0",), False), (4, (None,), False), (4, ([],), False),
-            (4, ({},), False), (4, ((0,),), False), (4, {}, False), (4, {0: 1}, False), (4, Thing(), False),
-            (4, (Thing(),), False),
+            (4, ({},), False), (4, ((0,),), False), (4, {}, False), (4, {0: 1}, False), (4, a_desk(), False),
+            (4, (a_desk(),), False),
         ):
             self.assertIs(charge_holds(BOX, WORLD, c, ("lot", thing)), expected, (c, thing))
         # A deed counts once, whichever of the cells it can pay for, and a deed with too many own steps counts 0.
@@ -325,7 +325,7 @@ class ErrorTests(unittest.TestCase):
                 self.assertIs(got[2], bad)
 
     def test_no_charges(self):
-        for c in (-1, -10 ** 30, True, False, None, "5", "", (5,), [5], {}, Thing(), ()):
+        for c in (-1, -10 ** 30, True, False, None, "5", "", (5,), [5], {}, a_desk(), ()):
             for got in (outcome(judge_charge, BOX, WORLD, c), outcome(charge_holds, BOX, WORLD, c, ("own", 0)),
                         outcome(charge_holds, BOX, WORLD, c, None), outcome(judge_charge, BOX, (), c)):
                 self.assertEqual(got[:2], ("raised", "BadNumber"))

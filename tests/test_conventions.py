@@ -4,10 +4,10 @@ import inspect
 import itertools
 import unittest
 
-from debtsheld import books, checker, kinds, programs, worlds
+from debtsheld import books, checker, kinds, made, programs, shelf, worlds
 from debtsheld.checker import fault, is_checked
 from debtsheld.programs import is_program, program_text, read_program
-from tests.samples import ANY_VALUES, BOX, BOX_TEXT, STREAMS, TWO, Thing, copied, frozen, outcome, program_of
+from tests.samples import ANY_VALUES, BOX, BOX_TEXT, STREAMS, TWO, a_desk, copied, frozen, outcome, program_of
 
 # Each function with its parameter, an argument that it answers, and the error that other values give.
 FUNCTIONS = (
@@ -89,6 +89,7 @@ KIND = ("kind", "queue", "BadKind")
 QUEUE = ("program", TWO, "BadProgram")
 PUTS = ("world", (("empty", ()), ("put", (("of", 0), 7)), ("first", (("of", 1),)), ("rest", (("of", 0),))), "BadWorld")
 C = ("c", 9, "BadNumber")
+NAME = ("name", "eager", "BadName")
 
 # Each function with its parameters, for each one an argument that it answers and the error that other values give.
 INTERFACE = (
@@ -108,15 +109,27 @@ INTERFACE = (
     (kinds, "meanings", (KIND, PUTS)),
     (kinds, "judge_kind", (KIND, QUEUE, PUTS)),
     (kinds, "kind_holds", (KIND, QUEUE, PUTS, ("thing", ("right",), None))),
+    (shelf, "shelf", (NAME,)),
+    (shelf, "kind_of", (NAME,)),
+    (shelf, "promise", (NAME,)),
+    (shelf, "names", ()),
+    (shelf, "keeps", (KIND, QUEUE, PUTS, ("promise", ("each", 24), "BadPromise"))),
+    (made, "slow_world", (("n", 2, "BadNumber"),)),
+    (made, "branched", (KIND, PUTS, ("k", 3, "BadNumber"), ("m", 2, "BadNumber"))),
 )
+# The functions with a parameter for any value.
+ASKING = tuple(row for row in INTERFACE if row[2] and row[2][-1][0] == "thing")
+# What is a position of a deed there, by the function.
+POSITIONS = {"line": (0, 1, 2, 3), "branched": (0, 1, 3)}
 
 
-def is_right(parameter, value):
+def is_right(name, parameter, value):
     """Whether one of ANY_VALUES is of the kind that is asked for."""
     if parameter == "world":
         return value == ()
-    number = type(value) is int and value >= 0
-    return number and (parameter == "c" or parameter == "k" and value < len(WORLD[1]))
+    if type(value) is not int or parameter not in ("c", "k", "m", "n"):
+        return False
+    return value in POSITIONS[name] if parameter == "k" else value >= (1 if parameter == "n" else 0)
 
 
 class InterfaceTests(unittest.TestCase):
@@ -148,7 +161,7 @@ class InterfaceTests(unittest.TestCase):
         for module, name, listed in INTERFACE:
             for at, (parameter, _, error) in enumerate(listed):
                 for value in ANY_VALUES:
-                    if error is None or is_right(parameter, value):
+                    if error is None or is_right(name, parameter, value):
                         continue
                     arguments = [good for _, good, _ in listed]
                     arguments[at] = value
@@ -163,8 +176,8 @@ class InterfaceTests(unittest.TestCase):
             for parameter, good, error in listed:
                 ways.append([(good, None), (["wrong"], error)])
                 if parameter == "program":
-                    ways[-1].append((faulty, "BadChecked" if module is not kinds else error))
-                if parameter in ("c", "k"):
+                    ways[-1].append((faulty, "BadChecked" if module not in (kinds, shelf) else error))
+                if parameter in ("c", "k", "m", "n"):
                     ways[-1].extend([(True, error), (-1, error)])
             for way in itertools.product(*ways):
                 arguments = [argument for argument, _ in way]
@@ -179,11 +192,10 @@ class InterfaceTests(unittest.TestCase):
     def test_functions_that_say_whether(self):
         others = ANY_VALUES + (WORLD[1], PUTS[1], TWO, STREAMS, list(TWO), ("right",), ("wrong", 0), ("wrong", True),
                                ("own", 0), ("lot", (0,)), ("book", ((0, 0, 1),)), ("book", ((0, 0, True),)), ("book", []),
-                               (0, True), (0, 1), (Thing(), 1), ("own", Thing()), {"own": 0})
-        for module, name, listed in INTERFACE:
-            if not name.startswith("is_") and not name.endswith("_holds"):
-                continue
-            self.assertEqual(listed[-1][0], "thing")
+                               (0, True), (0, 1), (a_desk(), 1), ("own", a_desk()), {"own": 0})
+        self.assertEqual([name for _, name, _ in ASKING],
+                         [name for _, name, _ in INTERFACE if name.startswith("is_") or name.endswith("_holds")])
+        for module, name, listed in ASKING:
             self.assertIs(self.called(module, name, [good for _, good, _ in listed])[1], True)
             for value in others:
                 for got in (self.called(module, name, [good for _, good, _ in listed[:-1]] + [value]),):
@@ -199,6 +211,7 @@ class InterfaceTests(unittest.TestCase):
                 first = frozen(self.called(module, name, arguments))
                 self.assertEqual(frozen(arguments), before)
                 self.called(module, name, [list(STREAMS)] * len(arguments))
+                self.called(module, name, [a_desk()] * len(arguments))
                 self.assertEqual(frozen(self.called(module, name, copied(arguments))), first)
 
     def test_results_consist_of_what_is_allowed(self):
@@ -208,11 +221,10 @@ class InterfaceTests(unittest.TestCase):
     def test_what_is_returned_can_be_passed(self):
         for module, name, listed in INTERFACE:
             returned = self.called(module, name, [good for _, good, _ in listed])[1]
-            for other_module, other, other_listed in INTERFACE:
-                if other_listed[-1][0] == "thing":
-                    for thing in (returned, (returned,), [returned], returned[:1] if isinstance(returned, tuple) else 1):
-                        got = self.called(other_module, other, [good for _, good, _ in other_listed[:-1]] + [thing])
-                        self.assertIs(type(got[1]), bool)
+            for other_module, other, other_listed in ASKING:
+                for thing in (returned, (returned,), [returned], returned[:1] if isinstance(returned, tuple) else 1):
+                    got = self.called(other_module, other, [good for _, good, _ in other_listed[:-1]] + [thing])
+                    self.assertIs(type(got[1]), bool)
 
 
 def consists(value):

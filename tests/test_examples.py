@@ -60,6 +60,43 @@ raises BadText('(def one () 01)')
 >>> HEAP = (('empty', ()), ('insert', (('of', 0), 2)), ('merge', (('of', 1), ('of', 1))), ('without', (('of', 0),)), ('least', (('of', 3),)))
 >>> [is_kind_program('queue', PILE), is_kind_program('heap', PILE), is_kind_world('queue', WORLD + (('rest', (('of', 3),)),)), kind_holds('queue', PILE, WORLD, ('wrong', 5)), meanings('heap', HEAP)[2:]]
 [True, False, False, False, (('version', (2, 2)), ('stuck',), ('none',))]
+>>> from debtsheld.kinds import judge_kind
+>>> from debtsheld.shelf import keeps, kind_of, names, promise, shelf
+>>> WORLD = (('empty', ()), ('put', (('of', 0), 7)), ('put', (('of', 1), 8)), ('first', (('of', 2),)), ('rest', (('of', 2),)), ('first', (('of', 0),)))
+>>> [names(), promise('banker'), kind_of('skew'), [judge_kind('queue', shelf(name), WORLD) for name in ('banker', 'eager', 'real')], [keeps('queue', shelf(name), WORLD, promise(name)) for name in ('banker', 'eager', 'real')]]
+[('banker', 'binomial', 'deque', 'eager', 'joined', 'leftist', 'real', 'skew'), ('held', 64), 'list', [('right',), ('right',), ('right',)], [True, True, True]]
+>>> from debtsheld.kinds import judge_kind, meanings
+>>> from debtsheld.shelf import keeps, promise, shelf
+>>> DEQUE = (('empty', ()), ('front', (5, ('of', 0))), ('back', (('of', 1), 6)), ('last', (('of', 2),)), ('init', (('of', 2),)), ('first', (('of', 4),)))
+>>> JOINED = (('one', (3,)), ('one', (4,)), ('join', (('of', 0), ('of', 1))), ('join', (('of', 2), ('of', 2))), ('rest', (('of', 3),)), ('first', (('of', 4),)))
+>>> HEAP = (('empty', ()), ('insert', (('of', 0), 2)), ('insert', (('of', 1), 1)), ('merge', (('of', 2), ('of', 1))), ('without', (('of', 3),)), ('least', (('of', 4),)))
+>>> [meanings('deque', DEQUE)[3:], meanings('joined', JOINED)[4:], meanings('heap', HEAP)[3:]]
+[(('answer', 6), ('version', (5,)), ('answer', 5)), (('version', (4, 3, 4)), ('answer', 4)), (('version', (1, 2, 2)), ('version', (2, 2)), ('answer', 2))]
+>>> from debtsheld.kinds import judge_kind
+>>> from debtsheld.shelf import keeps, promise, shelf
+>>> DEQUE = (('empty', ()), ('front', (5, ('of', 0))), ('back', (('of', 1), 6)), ('last', (('of', 2),)), ('init', (('of', 2),)), ('first', (('of', 4),)))
+>>> JOINED = (('one', (3,)), ('one', (4,)), ('join', (('of', 0), ('of', 1))), ('join', (('of', 2), ('of', 2))), ('rest', (('of', 3),)), ('first', (('of', 4),)))
+>>> HEAP = (('empty', ()), ('insert', (('of', 0), 2)), ('insert', (('of', 1), 1)), ('merge', (('of', 2), ('of', 1))), ('without', (('of', 3),)), ('least', (('of', 4),)))
+>>> [[judge_kind(kind, shelf(name), world), keeps(kind, shelf(name), world, promise(name))] for kind, name, world in (('deque', 'deque', DEQUE), ('joined', 'joined', JOINED), ('heap', 'binomial', HEAP), ('heap', 'leftist', HEAP))]
+[[('right',), True], [('right',), True], [('right',), True], [('right',), True]]
+>>> from debtsheld.programs import read_program
+>>> from debtsheld.shelf import keeps
+>>> from debtsheld.worlds import steps
+>>> TWO = read_program('(def empty () (Q (N) (N)))\n(def rev (l a) (case l ((N) a) ((C x t) (rev t (C x a)))))\n(def check (f r) (case f ((N) (Q (rev r (N)) (N))) ((C x t) (Q f r))))\n(def put (q x) (case q ((Q f r) (check f (C x r)))))\n(def first (q) (case q ((Q f r) (case f ((C x t) x)))))\n(def rest (q) (case q ((Q f r) (case f ((C x t) (check t r))))))')
+>>> WORLD = (('empty', ()), ('put', (('of', 0), 7)), ('put', (('of', 1), 8)), ('first', (('of', 2),)), ('rest', (('of', 2),)), ('first', (('of', 0),)))
+>>> [steps(TWO, WORLD), keeps('queue', TWO, WORLD, ('each', 24)), keeps('queue', TWO, WORLD, ('each', 23)), keeps('queue', TWO, WORLD, ('line', 1))]
+[(3, 24, 12, 5, 24, 4), True, False, True]
+>>> from debtsheld.made import branched, slow_world
+>>> from debtsheld.shelf import shelf
+>>> from debtsheld.worlds import steps
+>>> WORLD = (('empty', ()), ('put', (('of', 0), 7)), ('put', (('of', 1), 8)), ('first', (('of', 2),)), ('rest', (('of', 2),)), ('first', (('of', 0),)))
+>>> [len(slow_world(4)) <= 12, sum(steps(shelf('eager'), slow_world(4))) >= 160, branched('queue', WORLD[:3], 1, 2)[3:], branched('queue', WORLD, 2, 1)[6:]]
+[True, True, (('put', (('of', 1), 8)), ('put', (('of', 1), 8))), (('first', (('of', 2),)), ('rest', (('of', 2),)))]
+>>> from debtsheld.desk import Desk
+>>> from debtsheld.programs import read_program
+>>> DESK = Desk(read_program('(def empty () (Q (N) (N)))\n(def rev (l a) (case l ((N) a) ((C x t) (rev t (C x a)))))\n(def check (f r) (case f ((N) (Q (rev r (N)) (N))) ((C x t) (Q f r))))\n(def put (q x) (case q ((Q f r) (check f (C x r)))))\n(def first (q) (case q ((Q f r) (case f ((C x t) x)))))\n(def rest (q) (case q ((Q f r) (case f ((C x t) (check t r))))))'))
+>>> [DESK.do(('empty', ())), DESK.mark(), DESK.do(('put', (('of', 0), 7)))[1], DESK.steps(), DESK.undo(), DESK.world(), DESK.undo(), DESK.undo()]
+[(('value', ('Q', (('N', ()), ('N', ())))), 3, (), ()), 0, 24, 27, True, (('empty', ()),), True, False]
 """
 
 
@@ -86,7 +123,7 @@ class ExampleTests(unittest.TestCase):
             below = lines[at + 1] if at + 1 < len(lines) and not lines[at + 1].startswith(">>> ") else None
             self.assertEqual(answer(line[4:], names), below)
             shown += below is not None
-        self.assertEqual(shown, 9)
+        self.assertEqual(shown, 15)
 
     def test_readme(self):
         # What shows a result there leaves it in builtins, where other tests look.

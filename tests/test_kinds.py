@@ -6,104 +6,16 @@ from debtsheld.kinds import is_kind_program, is_kind_world, judge_kind, kind_hol
 from debtsheld.programs import read_program
 from debtsheld.worlds import outcomes
 from tests.plain import chances, plain_machine, with_much_room
+from tests.plain_kinds import KINDS, functions_of, kind_world, plain_meanings
 from tests.samples import (
-    ANY_VALUES, BOX, DEQUE, HEAP, JOINED, KIND_PROGRAMS, LIST, PILE, TWO, Thing, outcome, program_of,
+    ANY_VALUES, BOX, DEQUE, HEAP, JOINED, KIND_PROGRAMS, LIST, PILE, TWO, a_desk, outcome, program_of,
 )
 
-# For each kind its functions: v is a version, n an integer; behind : what the function returns.
-SORTS = {
-    "queue": "empty:v put-vn:v first-v:n rest-v:v",
-    "deque": "empty:v front-nv:v back-vn:v first-v:n rest-v:v last-v:n init-v:v",
-    "list": "empty:v cons-nv:v head-v:n tail-v:v look-vn:n set-vnn:v",
-    "joined": "empty:v one-n:v join-vv:v first-v:n rest-v:v",
-    "heap": "empty:v insert-vn:v least-v:n without-v:v merge-vv:v",
-}
-KINDS = tuple(SORTS)
 BAD_KINDS = ("", "Queue", "queues", "queue ", "banker", "stack", None, 1, True, (), ("queue",), ["queue"], {}, {"queue": 1},
-             Thing()) + ANY_VALUES
+             a_desk()) + ANY_VALUES
 GOOD = {"queue": TWO, "deque": DEQUE, "list": LIST, "joined": JOINED, "heap": HEAP}
 WORLD = (("empty", ()), ("put", (("of", 0), 7)), ("put", (("of", 1), 8)), ("first", (("of", 2),)), ("rest", (("of", 2),)),
          ("first", (("of", 0),)))
-
-
-def functions_of(kind):
-    """Triples of a function, the sorts of its arguments and what it returns."""
-    found = []
-    for row in SORTS[kind].split():
-        head, returned = row.split(":")
-        f, _, sorts = head.partition("-")
-        found.append((f, sorts, returned))
-    return found
-
-
-def plain_meanings(kind, world):
-    """Part 6.3 with Python's lists."""
-    found = []
-    for f, arguments in world:
-        given = []
-        for argument in arguments:
-            if isinstance(argument, tuple):
-                argument = found[argument[1]]
-                argument = argument[1] if argument[0] == "version" else None
-            given.append(argument)
-        if None in given:
-            found.append(("none",))
-            continue
-        items = [list(part) for part in given if isinstance(part, tuple)]
-        numbers = [part for part in given if isinstance(part, int)]
-        found.append(plain_meaning(kind, f, items, numbers))
-    return tuple(found)
-
-
-def plain_meaning(kind, f, items, numbers):
-    row = items[0] if items else []
-    if f in ("first", "rest", "last", "init", "head", "tail", "least", "without") and not row:
-        return ("stuck",)
-    if f in ("look", "set") and numbers[0] not in range(len(row)):
-        return ("stuck",)
-    answers = {"first": lambda: row[0], "head": lambda: row[0], "last": lambda: row.pop(), "least": lambda: min(row),
-               "look": lambda: row[numbers[0]]}
-    if f in answers:
-        return ("answer", answers[f]())
-    if f in ("put", "back", "insert", "one"):
-        row.append(numbers[0])
-    if f in ("front", "cons"):
-        row.insert(0, numbers[0])
-    if f in ("rest", "tail"):
-        del row[0]
-    if f == "without":
-        row.remove(min(row))
-    if f == "init":
-        row.pop()
-    if f == "set":
-        row[numbers[0]] = numbers[1]
-    if f in ("join", "merge"):
-        row.extend(items[1])
-    if kind == "heap":
-        row.sort()
-    return ("version", tuple(row))
-
-
-def kind_world(kind, chance, most, largest=60):
-    """A world of the kind; most of its versions are used by later deeds, and none has more items than that."""
-    world, sizes = [], []
-    for k in range(chance.randrange(most + 1)):
-        versions = [i for i in range(k) if sizes[i] is not None]
-        if chance.random() < 0.9:
-            versions = [i for i in versions if sizes[i] >= 0]
-        f, sorts, returned = chance.choice(functions_of(kind)) if versions else ("empty", "", "v")
-        recent = versions[-3:] if chance.random() < 0.6 else versions
-        used = [chance.choice(recent) for sort in sorts if sort == "v"]
-        numbers = [chance.choice((-1, 0, 0, 1, 2, 3, 7)) for sort in sorts if sort == "n"]
-        if f in ("look", "set") and chance.random() < 0.7:
-            numbers[0] = chance.randrange(max(sizes[used[0]], 0) + 1)
-        if sum(max(sizes[i], 0) for i in used) + len(numbers) > largest:
-            f, sorts, returned, used, numbers = "empty", "", "v", [], []
-        places, rest = iter(used), iter(numbers)
-        world.append((f, tuple(("of", next(places)) if sort == "v" else next(rest) for sort in sorts)))
-        told = plain_meanings(kind, world)[-1]
-        sizes.append(None if returned == "n" else len(told[1]) if told[0] == "version" else -1)
-    return tuple(world)
 
 
 def wrong_deeds(program, kind, world):
@@ -187,7 +99,7 @@ class KindWorldTests(unittest.TestCase):
     def test_each_argument_replaced(self):
         others = (None, True, False, "1", "", [1], (1,), (), [], {}, 1.5, ("of",), ("of", 1, 1), ["of", 1], ("off", 1),
                   ("of", True), ("of", False), ("of", "1"), ("of", None), ("of", -1), ("of", 4), ("of", 5), ("of", 10 ** 30),
-                  ("of", (1,)), Thing(), ("cell", 0), ("version", ()))
+                  ("of", (1,)), a_desk(), ("cell", 0), ("version", ()))
         for kind in KINDS:
             for f, sorts, _ in functions_of(kind):
                 answering = [g for g, _, returned in functions_of(kind) if returned == "n"][0]
@@ -206,7 +118,7 @@ class KindWorldTests(unittest.TestCase):
                         self.assert_kind_world(kind, world + (("empty", ()),), False)
                 for bad in ((f, right[1] + (1,)), (f, right[1] + (("of", 0),)), (f, list(right[1])), [f, right[1]], (f,),
                             (f, right[1], ()), (f + " ", right[1]), (f.upper(), right[1]), ((f,), right[1]), ([f], right[1]),
-                            (right[1], f), (None, right[1]), (f, None), (f, 1), (f, {}), f, None, (), [], Thing()):
+                            (right[1], f), (None, right[1]), (f, None), (f, 1), (f, {}), f, None, (), [], a_desk()):
                     self.assert_kind_world(kind, start + (bad,), False)
                     self.assert_kind_world(kind, (bad,) + start, False)
                     self.assert_kind_world(kind, start + (bad, ("empty", ())), False)
@@ -342,7 +254,7 @@ class CertificateTests(unittest.TestCase):
         for thing in (("right",), ("wrong", 5), ("wrong", 0), ("wrong", 6), ("wrong", -3), ("wrong", -1), ("wrong",),
                       ("wrong", "3"), ("wrong", 3, 3), ["wrong", 3], ("Wrong", 3), ("wrong", (3,)), ("wrong", [3]),
                       ("wrong", None), "wrong", ("wrong", {}), (("wrong", 3),), ("wrong", True),
-                      ("wrong", False), (3, "wrong"), ([], 3), ({}, 3), 3, ("right", 3), ("right", ()), ("wrong", Thing())) + ANY_VALUES:
+                      ("wrong", False), (3, "wrong"), ([], 3), ({}, 3), 3, ("right", 3), ("right", ()), ("wrong", a_desk())) + ANY_VALUES:
             self.assertIs(kind_holds("queue", PILE, WORLD, thing), False, thing)
         for thing in (("right", ()), "right", ["right"], ("right", 1), ("right", "right"), ("Right",), (("right",),),
                       {"right": 1}, ("wrong", 0), ("wrong", 5), (["right"],), (True,), True) + ANY_VALUES:

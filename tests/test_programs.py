@@ -3,21 +3,21 @@
 import unittest
 
 from debtsheld.programs import is_program
-from tests.samples import ANY_VALUES, BOX, FORMS, ONE, X, Thing, program_of, wrapped
+from tests.samples import ANY_VALUES, BOX, FORMS, ONE, X, a_desk, program_of, wrapped
 
 BRANCH = ("T", ("y",), ONE)
 
 BAD_NAMES = (
     "def", "case", "let", "if", "delay", "force", "a" * 13, "", "X", "xY", "1x", "1", "x_", "_x", "x y", " x", "x ",
     "x\n", "\n", "x-", "x'", "\u00e4", "x\u00e9", "\u0661", "x\u00b2", "-", "+", "<", "(x)", "Tag", None, 1, True,
-    (), ("x",), ["x"], {"x": 1}, Thing(), b"x",
+    (), ("x",), ["x"], {"x": 1}, a_desk(), b"x",
 )
 GOOD_NAMES = ("a", "z", "a" * 12, "x1", "x0123456789", "int", "name", "call", "make", "op", "defs", "iff", "lets",
               "forced", "casex", "a9z")
 
 BAD_TAGS = (
     "x", "x1", "tAG", "T" * 13, "", "1T", "9", "T_", "_T", "T ", " T", "T\n", "T-", "\u00c4", "T\u00e4", "def", None,
-    1, False, (), ("T",), ["T"], {}, Thing(),
+    1, False, (), ("T",), ["T"], {}, a_desk(),
 )
 GOOD_TAGS = ("T", "Z", "A" * 12, "Tag", "T1", "TAG", "T0123456789", "Az9", "Def", "If")
 
@@ -62,7 +62,7 @@ BAD_EXPRESSIONS = (
     ("force",), ("force", ONE, ONE), ["force", ONE], ("force", 1), ("force", ()), ("force", "x"),
     # others
     (), [], {}, None, True, 0, "", "x", (None,), ("",), ("def",), ("def", "f", (), ONE), ("zzz",), ("zzz", 1),
-    (("int", 1),), ((), 1), ([], 1), ({}, 1), ("branch", "T", (), ONE), BRANCH, Thing(), BOX, BOX[0],
+    (("int", 1),), ((), 1), ([], 1), ({}, 1), ("branch", "T", (), ONE), BRANCH, a_desk(), BOX, BOX[0],
 )
 
 

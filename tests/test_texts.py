@@ -4,7 +4,7 @@ import unittest
 
 from debtsheld.errors import BadProgram, BadText
 from debtsheld.programs import is_program, program_text, read_program
-from tests.samples import ANY_VALUES, BOX, BOX_TEXT, FORMS, ONE, X, Thing, outcome, program_of, text_of, wrapped
+from tests.samples import ANY_VALUES, BOX, BOX_TEXT, FORMS, ONE, X, a_desk, outcome, program_of, text_of, wrapped
 
 BAD_EXPRESSION_TEXTS = (
     # integers that are written otherwise than Python writes them
@@ -156,7 +156,7 @@ class ReadTests(unittest.TestCase):
                 self.assert_bad(text[:at] + sign + text[at:])
 
     def test_bad_values(self):
-        for thing in ANY_VALUES + (BOX, b"(def f () 1)", [BOX_TEXT], Thing()):
+        for thing in ANY_VALUES + (BOX, b"(def f () 1)", [BOX_TEXT], a_desk()):
             if thing != "(def f () 1)":
                 self.assertEqual(outcome(read_program, thing), ("raised", "BadText", thing))
 

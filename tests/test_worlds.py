@@ -6,7 +6,7 @@ import unittest
 from debtsheld.programs import read_program
 from debtsheld.worlds import is_part, is_world, line, outcomes, steps, traces
 from tests.plain import chances, some_line, some_program, some_world
-from tests.samples import ANY_VALUES, BOX, BOXES, STREAMS, Thing, outcome, program_of, streams_world
+from tests.samples import ANY_VALUES, BOX, BOXES, STREAMS, a_desk, outcome, program_of, streams_world
 
 WORLD = (("box", (4,)), ("open", (("of", 0),)), ("open", (("of", 0),)), ("open", (7,)))
 FAULTY = program_of(("name", "y"))
@@ -20,8 +20,8 @@ BAD_DEEDS = (
     ("box", (("of", False),)), ("box", (("of", "0"),)), ("box", (("of", None),)), ("box", (("of", (0,)),)),
     ("box", (("off", 0),)), ("box", ((0, "of"),)), ("box", (("Of", 0),)), ("box", (([], 0),)), ("box", (({}, 0),)),
     ("Box", (1,)), ("none", (1,)), ("", (1,)), (1, (1,)), (None, (1,)), (["box"], (1,)), (("box",), (1,)),
-    ({}, (1,)), ((1,), "box"), "box", 7, None, True, [], {}, Thing(), (Thing(), (1,)), ("box", (Thing(),)),
-    ("box", (("of", Thing()),)), ("box", (("cell", 0),)), ("box", (("Box", (1,)),)), (("box", (1,)),), (("box", (1,)),) * 2,
+    ({}, (1,)), ((1,), "box"), "box", 7, None, True, [], {}, a_desk(), (a_desk(), (1,)), ("box", (a_desk(),)),
+    ("box", (("of", a_desk()),)), ("box", (("cell", 0),)), ("box", (("Box", (1,)),)), (("box", (1,)),), (("box", (1,)),) * 2,
 )
 
 
@@ -181,7 +181,7 @@ class LineTests(unittest.TestCase):
         self.assertEqual(line(BOXES, world, 2), (0, 1, 2))
 
     def test_no_position(self):
-        for k in (4, 5, -1, -4, 10 ** 20, True, False, None, "0", (0,), [0], {}, "", Thing()):
+        for k in (4, 5, -1, -4, 10 ** 20, True, False, None, "0", (0,), [0], {}, "", a_desk()):
             got = outcome(line, BOX, WORLD, k)
             self.assertEqual(got[:2], ("raised", "BadNumber"))
             self.assertIs(got[2], k)
